@@ -1,0 +1,1 @@
+"""Handcarried: numbers that check themselves, and what people do to their copies."""
