@@ -250,6 +250,20 @@ class TestWalk(Case):
         self.assertEqual(len(rule_walk("01", ("back", seventh))), 128)
         self.assertEqual(rule_walk("01", ("back", ("back", seventh))), rule_walk("01", seventh))
 
+    def test_back_of_a_hundred_and_fifty_standings(self):
+        def rounds(many):
+            return ("square", tuple(((at + 1) % many,) * 2 for at in range(many)), (0,))
+
+        rule = ("both", rounds(50), rounds(3))
+        self.assertEqual(len(rule_walk("01", rule)), 150)
+        self.assertEqual(rule_walk("01", ("back", rule)), rule_walk("01", rule))
+        # Nor does any other part make more of them.
+        for outer in (("not", rule), ("faces", ("00", "10"), rule), ("cut", 0, 0, rule), ("both", rule, ANY)):
+            self.assertEqual(len(rule_walk("01", outer)), 150)
+        # The empty paper is wrong by these, and the one of 150 signs right.
+        for outer in (("cut", 1, 0, ("not", rule)), ("cut", 0, 1, ("not", rule))):
+            self.raises(TooMany, {"what": "standing"}, rule_walk, "01", outer)
+
     def test_squares_are_kept_and_walked(self):
         rule = ("square", ((1, 1), (0, 0), (2, 2)), (1, 2))
         self.same(check_rule("01", rule), rule)

@@ -1,0 +1,66 @@
+"""The interface: each name in its own file, with its arguments, and each method in its own class."""
+
+import importlib
+import inspect
+import unittest
+
+FUNCTIONS = {
+    "papers": ("sign_value(signs, sign)", "paper_key(paper)", "in_order(papers)", "lag_of(first, second)",
+               "lag_on(lag, first, second)"),
+    "rules": ("check_rule(signs, rule)", "is_right(signs, rule, paper)", "rule_walk(signs, rule)"),
+    "forms": ("check_form(signs, form)", "readings(signs, form, paper)", "form_walk(signs, form)"),
+    "hands": ("pairs_of(signs, patterns)",),
+    "ruletext": ("write_rule(rule)", "read_rule(text)"),
+    "parttext": ("write_series(series)", "write_hand(hand)", "write_way(way)"),
+    "housetext": ("write_house(house)", "read_house(lines)", "house_lines(house)"),
+    "deedtext": ("write_deeds(deeds)", "read_deeds(lines)"),
+    "alike": ("judge_alike(first, second, table, *, frame=None)",),
+}
+
+CLASSES = {
+    "walks.Walk": ("__init__(self, signs, rows, goals)", "standing(self, paper, start=0)", "right(self, paper)",
+                   "least_paper(self, start=0)", "__contains__(self, paper)", "__len__(self)",
+                   "__getitem__(self, at)", "__iter__(self)", "__bool__(self)", "__eq__(self, other)",
+                   "__and__(self, other)", "__or__(self, other)", "__sub__(self, other)", "__invert__(self)"),
+    "series.Series": ("__init__(self, name, signs, form, rule)", "__contains__(self, paper)",
+                      "check_signs(self, body)", "__eq__(self, other)", "__bool__(self)"),
+    "hands.Hand": ("__init__(self, name, signs, slips)", "__eq__(self, other)", "__add__(self, other)",
+                   "__call__(self, copying)"),
+    "ways.Way": ("__init__(self, name, series, stations)", "__len__(self)", "__iter__(self)", "__eq__(self, other)"),
+    "house.House": ("__init__(self, signs, serieses, hands, ways)", "series_named(self, name)",
+                    "hand_named(self, name)", "way_named(self, name)", "__eq__(self, other)"),
+    "alike.Alike": ("__init__(self, first, second, *, frame=None)", "__bool__(self)", "__iter__(self)"),
+}
+
+
+def module(name):
+    return importlib.import_module(f"handcarried.{name}")
+
+
+class TestInterface(unittest.TestCase):
+    def test_functions(self):
+        for name, wanted in FUNCTIONS.items():
+            for head in wanted:
+                function = getattr(module(name), head.split("(")[0])
+                self.assertEqual(function.__name__ + str(inspect.signature(function)), head)
+                self.assertEqual(function.__module__, f"handcarried.{name}")
+
+    def test_classes(self):
+        for path, wanted in CLASSES.items():
+            name, class_name = path.split(".")
+            kind = getattr(module(name), class_name)
+            self.assertEqual(kind.__module__, f"handcarried.{name}")
+            for head in wanted:
+                method = kind.__dict__[head.split("(")[0]]
+                self.assertEqual(method.__name__ + str(inspect.signature(method)), head)
+
+    def test_other_methods(self):
+        walk = module("walks").Walk
+        self.assertIsInstance(walk.__dict__["live"], property)
+        self.assertIsInstance(walk.__dict__["everything"], classmethod)
+        self.assertEqual(str(inspect.signature(walk.everything)), "(signs)")
+        self.assertTrue(inspect.isgeneratorfunction(module("housetext").house_lines))
+
+
+if __name__ == "__main__":
+    unittest.main()
