@@ -4,6 +4,7 @@ Each folder has a process of its own: two folders may hold tests of the same nam
 right in one folder are run.
 """
 
+import re
 import subprocess
 import sys
 import unittest
@@ -31,9 +32,9 @@ def run_all(folders):
             done = subprocess.run([sys.executable, __file__, "--one", str(folder)], stdout=subprocess.PIPE,
                                   stderr=subprocess.STDOUT, text=True, check=False)
             print(done.stdout, flush=True)
-            lines = done.stdout.strip().split("\n")
-            # A run that broke off has no such line, and counts as one that failed.
-            told = [int(word) for word in lines[-1].split()] if done.returncode == 0 else [0, 1, 0]
+            found = re.search(r"^(\d+) (\d+) (\d+)\s*\Z", done.stdout, re.MULTILINE)
+            # A run that broke off has no such line at its end, and counts as one that failed.
+            told = [int(word) for word in found.groups()] if found and done.returncode == 0 else [0, 1, 0]
             counts = [count + more for count, more in zip(counts, told)]
     passed, failed, skipped = counts
     print(f"{passed} passed, {failed} failed, {skipped} skipped")

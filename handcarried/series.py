@@ -26,8 +26,8 @@ class Series:
         row = self.walk.rows[standing_behind(self.walk, body, 0)]
         return tuple([sign for sign, to in zip(self.signs, row) if to in self.walk.goals])
 
-    def __contains__(self, paper):
-        return paper in self.walk
+    def __contains__(self, x):
+        return x in self.walk
 
     def __bool__(self):
         return bool(self.walk)

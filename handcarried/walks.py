@@ -75,8 +75,8 @@ class Walk:
             done += 1
         return None
 
-    def __contains__(self, paper):
-        return is_paper(self.signs, paper) and standing_behind(self, paper, 0) in self.goals
+    def __contains__(self, x):
+        return is_paper(self.signs, x) and standing_behind(self, x, 0) in self.goals
 
     def __len__(self):
         return len(self.rows)

@@ -119,12 +119,12 @@ class TestReadings(Case):
                 self.same(told, tuple(sorted(readings_of(form, paper), key=lambda parts: [len(x) for x in parts])))
 
     def test_five_hundred(self):
-        two = (("run", "a", "01", 0, None), ("run", "b", "01", 0, None), ("run", "c", "01", 0, None))
+        runs = (("run", "a", "01", 0, None), ("run", "b", "01", 0, None), ("run", "c", "01", 0, None))
         # A paper of n signs has (n + 1)(n + 2) / 2 readings by three runs.
-        self.assertEqual(len(readings("01", two, "0" * 30)), 496)
-        self.raises(TooMany, {"what": "reading"}, readings, "01", two, "0" * 31)
-        one = (("run", "a", "01", 0, None), ("run", "b", "01", 0, 9), ("run", "c", "01", 0, 9))
-        self.assertEqual(len(readings("01", one, "0" * 60)), 100)
+        self.assertEqual(len(readings("01", runs, "0" * 30)), 496)
+        self.raises(TooMany, {"what": "reading"}, readings, "01", runs, "0" * 31)
+        runs = (("run", "a", "01", 0, None), ("run", "b", "01", 0, 9), ("run", "c", "01", 0, 9))
+        self.assertEqual(len(readings("01", runs, "0" * 60)), 100)
 
     def test_five_hundred_and_one(self):
         def form(second, third, fourth):

@@ -19,10 +19,10 @@ FUNCTIONS = {
 
 CLASSES = {
     "walks.Walk": ("__init__(self, signs, rows, goals)", "standing(self, paper, start=0)", "right(self, paper)",
-                   "least_paper(self, start=0)", "__contains__(self, paper)", "__len__(self)",
+                   "least_paper(self, start=0)", "__contains__(self, x)", "__len__(self)",
                    "__getitem__(self, at)", "__iter__(self)", "__bool__(self)", "__eq__(self, other)",
                    "__and__(self, other)", "__or__(self, other)", "__sub__(self, other)", "__invert__(self)"),
-    "series.Series": ("__init__(self, name, signs, form, rule)", "__contains__(self, paper)",
+    "series.Series": ("__init__(self, name, signs, form, rule)", "__contains__(self, x)",
                       "check_signs(self, body)", "__eq__(self, other)", "__bool__(self)"),
     "hands.Hand": ("__init__(self, name, signs, slips)", "__eq__(self, other)", "__add__(self, other)",
                    "__call__(self, copying)"),
