@@ -11,8 +11,8 @@ MOST_STANDINGS = 150
 def least_form(rows, goals):
     """The least form as a pair of rows and goals; TooMany("standing") if it has too many."""
     found = found_standings(rows)
-    numbers = {at: number for number, at in enumerate(found)}
-    columns = [[numbers[rows[at][value]] for at in found] for value in range(len(rows[0]))]
+    numbered = {at: number for number, at in enumerate(found)}
+    columns = [[numbered[rows[at][value]] for at in found] for value in range(len(rows[0]))]
     ends = {goal: True for goal in goals}
     flags = [at in ends for at in found]
     classes = least_classes(flags, columns)
@@ -52,12 +52,12 @@ def least_classes(flags, columns):
 
 def parted(classes, marks):
     """The classes parted by a mark for each standing, numbered as they come."""
-    numbers = {}
+    numbered = {}
     out = []
     for pair in zip(classes, marks):
-        if pair not in numbers:
-            numbers[pair] = len(numbers)
-        out.append(numbers[pair])
+        if pair not in numbered:
+            numbered[pair] = len(numbered)
+        out.append(numbered[pair])
     return out
 
 
@@ -73,15 +73,15 @@ def first_places(classes):
 def joined_rows(first, second):
     """The rows of two walks side by side: the pairs of standings that are found, and a row for each."""
     found = [(0, 0)]
-    numbers = {(0, 0): 0}
+    numbered = {(0, 0): 0}
     rows = []
     while len(rows) < len(found):
         one, other = found[len(rows)]
         row = []
         for pair in zip(first[one], second[other]):
-            if pair not in numbers:
-                numbers[pair] = len(found)
+            if pair not in numbered:
+                numbered[pair] = len(found)
                 found.append(pair)
-            row.append(numbers[pair])
+            row.append(numbered[pair])
         rows.append(row)
     return found, rows

@@ -1,6 +1,6 @@
 """Signs, papers, their order, and lags ([2], [3])."""
 
-from handcarried.errors import BadPaper, BadSigns
+from handcarried.errors import BadPaper, BadSigns, Unlike
 from handcarried.kinds import is_ascending, is_text
 
 ALL_SIGNS = "0123456789ABCDEFGHIJKLMNOPQRSTUVWXYZ"
@@ -29,6 +29,12 @@ def require_paper(signs, paper):
     """Raise BadPaper unless this is a paper of these signs that may be passed."""
     if not is_paper(signs, paper):
         raise BadPaper(paper)
+
+
+def require_like_signs(things):
+    """Raise Unlike unless all of some things have the same signs."""
+    if any([thing.signs != things[0].signs for thing in things]):
+        raise Unlike("signs")
 
 
 def sign_value(signs, sign):
@@ -66,3 +72,12 @@ def lag_on(lag, first, second):
     if lag.startswith("-"):
         return lag_of(first, rest + second)
     return lag_of(rest + first, second)
+
+
+def is_lag(signs, thing):
+    """Whether a thing is a lag of two papers over these signs."""
+    if not isinstance(thing, str):
+        return False
+    if thing in ("=", "#"):
+        return True
+    return thing[:1] in ("+", "-") and is_text(thing[1:], 1, len(thing), signs)

@@ -10,17 +10,17 @@ def lot_rows(signs, fields):
     moves = place_moves(signs, fields)
     end = (len(fields), 0)
     found = [tuple(sorted(first_places_of(fields, 0)))]
-    numbers = {found[0]: 0}
+    numbered = {found[0]: 0}
     rows = []
     while len(rows) < len(found):
         lot = found[len(rows)]
         row = []
         for value in range(len(signs)):
             behind = tuple(sorted({to for place in lot for to in moves[place][value]}))
-            if behind not in numbers:
-                numbers[behind] = len(found)
+            if behind not in numbered:
+                numbered[behind] = len(found)
                 found.append(behind)
-            row.append(numbers[behind])
+            row.append(numbered[behind])
         rows.append(row)
     return rows, [number for number, lot in enumerate(found) if end in lot]
 

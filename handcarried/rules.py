@@ -3,7 +3,7 @@
 from handcarried.papers import require_paper, require_signs
 from handcarried.ruleparts import checked_rule, inner_rules, own_values
 from handcarried.rulewalks import back_walk, cut_walk, faces_walk, sum_walk
-from handcarried.walks import Walk, least_walk
+from handcarried.walks import Walk, least_walk, standing_in
 
 
 def check_rule(signs, rule):
@@ -58,10 +58,7 @@ def has_sum(signs, values, paper):
 def ends_in_goal(signs, values, paper):
     """Whether a paper that is walked by the rows of a square ends in a goal."""
     rows, goals = values
-    at = 0
-    for sign in paper:
-        at = rows[at][signs.index(sign)]
-    return at in goals
+    return standing_in(signs, rows, paper, 0) in goals
 
 
 def faced(signs, faces, paper):

@@ -29,17 +29,17 @@ def back_walk(signs, inner):
     standing has a paper that leads to it, so different lots never are one standing of the least form.
     """
     found = [inner.goals]
-    numbers = {inner.goals: 0}
+    numbered = {inner.goals: 0}
     rows = []
     while len(rows) < len(found):
         ends = {at: True for at in found[len(rows)]}
         row = []
         for value in range(len(signs)):
             lot = tuple([at for at, to in enumerate(inner.rows) if to[value] in ends])
-            if lot not in numbers:
-                numbers[lot] = len(found)
+            if lot not in numbered:
+                numbered[lot] = len(found)
                 found.append(lot)
-            row.append(numbers[lot])
+            row.append(numbered[lot])
         if len(found) > MOST_STANDINGS:
             raise TooMany("standing")
         rows.append(row)

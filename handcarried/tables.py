@@ -4,11 +4,12 @@ A point on a table is an object that tells:
 beginning (an attribute): the entry that is the beginning;
 entry_of(thing): the entry that a thing is, as tuples; None if it does not have the form;
 left_out(entry), bad(entry): whether an entry is left out, or bad;
-steps(entry): the entries to which the steps lead, those that are left out, too.
+steps(entry): the entries to which the steps lead; some that are left out may be among them;
+moves(entry): where more is told of the table, the same steps as they are in a net, with what they tell.
 """
 
 from handcarried.errors import TooMany
-from handcarried.kinds import is_tuple
+from handcarried.kinds import is_tuple, is_whole
 
 MOST_ENTRIES = 2000
 
@@ -37,12 +38,22 @@ def grown_table(point):
 
 def steps_to(ways, entry):
     """The numbers of the steps by which an entry was first found."""
-    numbers = []
+    taken = []
     here = entry
     while ways[here] is not None:
         here, number = ways[here]
-        numbers.append(number)
-    return numbers[::-1]
+        taken.append(number)
+    return taken[::-1]
+
+
+def net_of(point, ways):
+    """The net of the entries of a table that was grown."""
+    return {entry: [(told, behind) for told, behind in point.moves(entry) if behind in ways] for entry in ways}
+
+
+def is_price(thing):
+    """Whether a thing is a price as entries have it."""
+    return is_whole(thing) and thing >= 0
 
 
 def judge_table(point, table):

@@ -109,9 +109,14 @@ class Walk:
 
 def standing_behind(walk, paper, start):
     """The standing behind a paper of the signs of a walk, however long the paper is."""
+    return standing_in(walk.signs, walk.rows, paper, start)
+
+
+def standing_in(signs, rows, paper, start):
+    """The standing behind a paper that is walked by some rows from a standing."""
     at = start
     for sign in paper:
-        at = walk.rows[at][walk.signs.index(sign)]
+        at = rows[at][signs.index(sign)]
     return at
 
 

@@ -32,10 +32,10 @@ def integer_in(word, least, most):
 
 def integers_in(word, least_many, most_many, most):
     """The integers from 0 to most, least_many to most_many of them, that a word joins by commas."""
-    numbers = [integer_in(part, 0, most) for part in word.split(",")]
-    if None in numbers or not least_many <= len(numbers) <= most_many:
+    integers = [integer_in(part, 0, most) for part in word.split(",")]
+    if None in integers or not least_many <= len(integers) <= most_many:
         return None
-    return tuple(numbers)
+    return tuple(integers)
 
 
 def characters_in(word, least, most):
@@ -66,9 +66,9 @@ def paper_word(paper):
     return EMPTY_PAPER if paper == "" else paper
 
 
-def integers_word(numbers):
+def integers_word(integers):
     """The word for some integers."""
-    return ",".join([str(number) for number in numbers])
+    return ",".join([str(number) for number in integers])
 
 
 class Words:
