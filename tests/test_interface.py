@@ -15,6 +15,19 @@ FUNCTIONS = {
     "housetext": ("write_house(house)", "read_house(lines)", "house_lines(house)"),
     "deedtext": ("write_deeds(deeds)", "read_deeds(lines)"),
     "alike": ("judge_alike(first, second, table, *, frame=None)",),
+    "contexts": ("sign_classes(walk)",),
+    "sums": ("least_sum(walk, *, modulus, many)",),
+    "ranks": ("count_of(series, length)", "rank_of(series, paper)", "nth_number(series, rank)",
+              "next_number(series, paper)", "last_number(series, paper)", "numbers(series)"),
+    "lengths": ("length_flags(walk)",),
+    "prices": ("least_price(hand, paper, copy)", "copying_of(hand, paper, copy)"),
+    "copies": ("copies_of(hand, paper, *, most=1)",),
+    "lean": ("dearer_pair(first, second)", "lean_pairs(hand)", "lean_hand(hand)", "alike_hands(first, second)"),
+    "crossings": ("judge_crossing(sender, hand, taker, most, table)",),
+    "finding": ("judge_finding(series, hand, most, table)",),
+    "events": ("events(series, hand, length)", "missing_lengths(series, hand, *, most=1)"),
+    "mending": ("meant(series, hand, paper, *, most=1)", "judge_mending(series, hand, most, table)"),
+    "squares": ("is_square(signs, rows)", "hiding_slip(hand, rows)"),
 }
 
 CLASSES = {
@@ -30,6 +43,14 @@ CLASSES = {
     "house.House": ("__init__(self, signs, serieses, hands, ways)", "series_named(self, name)",
                     "hand_named(self, name)", "way_named(self, name)", "__eq__(self, other)"),
     "alike.Alike": ("__init__(self, first, second, *, frame=None)", "__bool__(self)", "__iter__(self)"),
+    "contexts.Blind": ("__init__(self, walk, first, second)", "__bool__(self)"),
+    "contexts.Seeing": ("__init__(self, walk, first, second)", "__bool__(self)"),
+    "checks.Completion": ("__init__(self, series)", "__bool__(self)"),
+    "clear.Clear": ("__init__(self, signs, form)", "__bool__(self)"),
+    "ranks.Roll": ("__init__(self, series)", "__getitem__(self, at)", "__contains__(self, x)", "__iter__(self)"),
+    "crossings.Crossing": ("__init__(self, sender, hand, taker, *, most=1)", "__bool__(self)"),
+    "finding.Finding": ("__init__(self, series, hand, *, most=1)", "__bool__(self)", "__iter__(self)"),
+    "mending.Mending": ("__init__(self, series, hand, *, most=1)", "__bool__(self)"),
 }
 
 
@@ -60,6 +81,7 @@ class TestInterface(unittest.TestCase):
         self.assertIsInstance(walk.__dict__["everything"], classmethod)
         self.assertEqual(str(inspect.signature(walk.everything)), "(signs)")
         self.assertTrue(inspect.isgeneratorfunction(module("housetext").house_lines))
+        self.assertTrue(inspect.isgeneratorfunction(module("ranks").numbers))
 
 
 if __name__ == "__main__":
