@@ -1,6 +1,13 @@
 """The pieces of a hand, and what they make ([9])."""
 
+from handcarried.errors import Unfit
 from handcarried.walks import standing_behind
+
+
+def require_like_lengths(hand):
+    """Raise Unfit unless the two papers of each pair of a hand have equally many signs."""
+    if any([len(before) != len(behind) for before, behind, _ in hand.pairs]):
+        raise Unfit("length")
 
 
 def pieces_of(hand):

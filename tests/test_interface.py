@@ -28,6 +28,13 @@ FUNCTIONS = {
     "events": ("events(series, hand, length)", "missing_lengths(series, hand, *, most=1)"),
     "mending": ("meant(series, hand, paper, *, most=1)", "judge_mending(series, hand, most, table)"),
     "squares": ("is_square(signs, rows)", "hiding_slip(hand, rows)"),
+    "cases": ("judge_cases(hand, order, tree)", "least_order(hand, *, most=3)"),
+    "weights": ("judge_bars(hand, modulus, length, bars)",),
+    "stories": ("follow(way, number, copyings)", "clean_story(way, number)"),
+    "trust": ("judge_trust(way, most, table)", "lie_price(way, *, most=1)"),
+    "sights": ("suspects(way, sight, *, most=1)", "surely(way, sight, *, most=1)", "perhaps(way, sight, *, most=1)"),
+    "doubts": ("judge_doubts(way, point, most, table)",),
+    "desks": ("with_desks(way, gaps, lot)", "without_desk(way, station)", "needless_desks(way, *, most=1)"),
 }
 
 CLASSES = {
@@ -51,6 +58,12 @@ CLASSES = {
     "crossings.Crossing": ("__init__(self, sender, hand, taker, *, most=1)", "__bool__(self)"),
     "finding.Finding": ("__init__(self, series, hand, *, most=1)", "__bool__(self)", "__iter__(self)"),
     "mending.Mending": ("__init__(self, series, hand, *, most=1)", "__bool__(self)"),
+    "cases.Cases": ("__init__(self, hand, order)", "__bool__(self)"),
+    "weights.Weights": ("__init__(self, hand, modulus, length)", "__bool__(self)"),
+    "trust.Trust": ("__init__(self, way, *, most=1)", "__bool__(self)", "__iter__(self)"),
+    "trust.CleanWay": ("__init__(self, way)", "__bool__(self)"),
+    "doubts.Doubts": ("__init__(self, way, point, *, most=1)", "__bool__(self)"),
+    "desks.Desks": ("__init__(self, way, gaps, *, most=1)", "__bool__(self)"),
 }
 
 
