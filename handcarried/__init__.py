@@ -1,1 +1,1 @@
-"""Handcarried: numbers that check themselves, and what people do to their copies."""
+"""Handcarried: numbers that check themselves, what people do to their copies, and what can be built against it."""

@@ -2,7 +2,7 @@
 
 from handcarried.errors import NoNumber
 from handcarried.lengths import first_lot, lot_behind
-from handcarried.papers import require_paper
+from handcarried.papers import MOST_SIGNS, require_paper
 from handcarried.reaches import Reach
 from handcarried.walks import goal_flags
 
@@ -70,6 +70,24 @@ def next_number(series, paper):
         length += 1
         number = reach.first_of(length, values)
     return number
+
+
+def numbers_behind(series, paper, many):
+    """The next numbers behind a paper, or the first ones, that may be passed: at most so many."""
+    reach = Reach(series.walk)
+    values = list(range(len(series.signs)))
+    found = []
+    number = None if paper is None else reach.beside(paper, values)
+    length = -1 if paper is None else len(paper)
+    while len(found) < many:
+        while number is None:
+            length += 1
+            if length > MOST_SIGNS:
+                return found
+            number = reach.first_of(length, values)
+        found.append(number)
+        number = reach.beside(number, values)
+    return found
 
 
 def last_number(series, paper):

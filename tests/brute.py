@@ -282,17 +282,22 @@ def slow_table(point, most=3000):
     return tuple(sorted(found))
 
 
+def tupled(thing):
+    """The thing with tuples in the place of lists."""
+    return tuple(tupled(part) for part in thing) if thing.__class__ in (tuple, list) else thing
+
+
 def slow_judge(point, table):
     """What the document says is wrong with a table."""
     if table.__class__ not in (tuple, list):
         return -1
-    known = [tuple(thing) for thing in table if point.form(thing)]
+    known = {tupled(thing) for thing in table if point.form(thing)}
     if not point.left_out(point.beginning) and point.beginning not in known:
         return -1
     for number, thing in enumerate(table):
         if not point.form(thing):
             return number
-        entry = tuple(thing)
+        entry = tupled(thing)
         if point.left_out(entry) or point.bad(entry) or any(
                 behind not in known and not point.left_out(behind) for behind in point.steps(entry)):
             return number

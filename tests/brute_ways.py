@@ -168,10 +168,6 @@ def is_state(way, station, thing, clean=False):
             and (thing[1] == "" or (len(thing[1]) == 1 and thing[1] in way.signs)))
 
 
-def tupled(thing):
-    return tuple(tupled(part) for part in thing) if thing.__class__ in (tuple, list) else thing
-
-
 class SlowTrust:
     """The table of a way, word by word."""
 
@@ -272,20 +268,3 @@ class SlowDoubts:
         if over[0] in "=+":
             out += [(one, to, slow_lag(over, "", text)) for text, to in self.behind(other)]
         return out
-
-
-def slow_judge_deep(point, table):
-    """What the document says is wrong with a table whose entries have tuples in them."""
-    if table.__class__ not in (tuple, list):
-        return -1
-    known = {tupled(thing) for thing in table if point.form(thing)}
-    if not point.left_out(point.beginning) and point.beginning not in known:
-        return -1
-    for number, thing in enumerate(table):
-        if not point.form(thing):
-            return number
-        entry = tupled(thing)
-        if point.left_out(entry) or point.bad(entry) or any(
-                behind not in known and not point.left_out(behind) for behind in point.steps(entry)):
-            return number
-    return None

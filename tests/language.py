@@ -315,7 +315,7 @@ def attributes(files):
     given = {node.attr for _, _, tree in files for node in ast.walk(tree)
              if isinstance(node, ast.Attribute) and isinstance(node.ctx, ast.Store)}
     own = {name for name in dir(str) + dir(int) + dir(list) + dir(dict) + dir(set) + dir(bytes) + dir(tuple)}
-    out = [("", 0, "L26", name) for name in sorted((methods | given) & own - SPECIAL)]
+    out = [("", 0, "L26", name) for name in sorted((methods - METHODS | given) & own - SPECIAL)]
     out += [("", 0, "L18", f"{name} is a method and an attribute") for name in sorted(methods & given)]
     for file, _, tree in files:
         parents = parents_of(tree)

@@ -211,7 +211,7 @@ class TestDesks(Case):
 
     def test_most(self):
         way = way_of(EVEN, ("hand", TURN))
-        gaps = ((1, EVEN, 1), (1, free_series("rule", "01"), 1)) if False else ((1, EVEN, 1), (1, rounds(1, name="r"), 1))
+        gaps = ((1, EVEN, 1), (1, rounds(1, name="r"), 1))
         self.same(Desks(way, gaps, most=0).lot, ())
         self.same(Desks(way, gaps).lot, (0,))
         self.same(Desks(way, gaps, most=2).lot, None)

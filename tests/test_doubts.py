@@ -2,8 +2,8 @@
 
 import random
 
-from brute import key_of, papers_upto, slow_table
-from brute_ways import SlowDoubts, slow_judge_deep
+from brute import key_of, papers_upto, slow_judge, slow_table
+from brute_ways import SlowDoubts
 from handcarried.doubts import Doubts, judge_doubts
 from handcarried.errors import BadPoint, TooMany, Unfit
 from handcarried.hands import Hand
@@ -26,7 +26,7 @@ class TestDoubts(Case):
         self.same(told.table, slow_table(slow))
         self.assertIs(bool(told), not any(slow.bad(entry) for entry in told.table))
         self.assertIs(bool(told), told.least is None)
-        self.same(judge_doubts(way, point, most, told.table), slow_judge_deep(slow, told.table))
+        self.same(judge_doubts(way, point, most, told.table), slow_judge(slow, told.table))
         if told.least is not None:
             paper, first, second = told.least
             rows = suspects(way, self.sight(way, point, paper), most=most)
@@ -153,7 +153,7 @@ class TestJudged(Case):
 
     def judged(self, table):
         told = judge_doubts(self.way, 2, 0, table)
-        self.same(told, slow_judge_deep(self.slow, table))
+        self.same(told, slow_judge(self.slow, table))
         return told
 
     def test_right_tables(self):
@@ -214,5 +214,5 @@ class TestJudged(Case):
             for _ in range(5 if table else 0):
                 other = spoilt_deep(dice, table)
                 told.append(judge_doubts(way, point, most, other))
-                self.same(told[-1], slow_judge_deep(slow, other))
+                self.same(told[-1], slow_judge(slow, other))
         self.assertTrue(None in told and -1 in told and 0 in told and 2 in told)

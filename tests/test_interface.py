@@ -4,6 +4,8 @@ import importlib
 import inspect
 import unittest
 
+from helpers import example_hand, example_series
+
 FUNCTIONS = {
     "papers": ("sign_value(signs, sign)", "paper_key(paper)", "in_order(papers)", "lag_of(first, second)",
                "lag_on(lag, first, second)"),
@@ -35,6 +37,11 @@ FUNCTIONS = {
     "sights": ("suspects(way, sight, *, most=1)", "surely(way, sight, *, most=1)", "perhaps(way, sight, *, most=1)"),
     "doubts": ("judge_doubts(way, point, most, table)",),
     "desks": ("with_desks(way, gaps, lot)", "without_desk(way, station)", "needless_desks(way, *, most=1)"),
+    "asking": ("judge_values(papers, menu, heard, table)", "answers_of(question, paper, heard)"),
+    "signatures": ("signature_of(signs, rules, paper)", "fitting(signs, rules, seen)"),
+    "close": ("judge_close(series, hand, most, far, table)",),
+    "holders": ("issued_meant(book, series, paper, hand, *, most=1)", "clashes(book, hand, *, most=1)"),
+    "trials": ("tried(book, deeds)",),
 }
 
 CLASSES = {
@@ -64,11 +71,61 @@ CLASSES = {
     "trust.CleanWay": ("__init__(self, way)", "__bool__(self)"),
     "doubts.Doubts": ("__init__(self, way, point, *, most=1)", "__bool__(self)"),
     "desks.Desks": ("__init__(self, way, gaps, *, most=1)", "__bool__(self)"),
+    "asking.Asking": ("__init__(self, papers, menu, *, heard=())", "__bool__(self)", "plan(self)", "led(self, answers)"),
+    "signatures.Signatures": ("__init__(self, frame, rules)",),
+    "settling.Settling": ("__init__(self, frame, rules)", "plan(self)", "led(self, flags)"),
+    "close.Close": ("__init__(self, series, hand, *, most=1, far=1)", "__bool__(self)"),
+    "books.Book": ("__init__(self, serieses, branches)", "do(self, *deeds)", "upto(self, many)", "copy(self)",
+                   "trial(self)", "issued(self, series)", "aside(self, branch, series)", "state(self, series, paper)",
+                   "readers(self, paper)", "edition(self, series, number)", "__len__(self)", "__iter__(self)",
+                   "__eq__(self, other)"),
+    "trials.Trial": ("__init__(self, book)", "__enter__(self)", "__exit__(self, kind, value, trace)"),
+}
+
+
+# The attributes that are set on each object when it is made.
+ATTRIBUTES = {
+    "Walk": "signs rows goals live", "Series": "name signs form rule frame walk", "Hand": "name signs slips pairs",
+    "Way": "name series stations signs", "House": "signs serieses hands ways", "Alike": "table parting",
+    "Blind": "context", "Seeing": "context", "Completion": "body", "Clear": "doubtful", "Crossing": "table least",
+    "Finding": "table missed", "Mending": "table doubtful", "Cases": "square tree", "Weights": "weights bars",
+    "Trust": "table lie", "CleanWay": "stopped", "Doubts": "table least", "Desks": "lot price shut way",
+    "Asking": "value table", "Signatures": "table shown", "Settling": "lots papers value", "Close": "least table",
+    "Book": "serieses branches deeds today",
 }
 
 
 def module(name):
     return importlib.import_module(f"handcarried.{name}")
+
+
+def made(name):
+    """An object of a class, as small as can be."""
+    series, hand = example_series(), example_hand()
+    way = module("ways").Way("post", series, ())
+    walk = series.walk
+    values = {
+        "Walk": walk, "Series": series, "Hand": hand, "Way": way,
+        "House": lambda: module("house").House("0123", (series,), (hand,), (way,)),
+        "Alike": lambda: module("alike").Alike(walk, walk), "Blind": lambda: module("contexts").Blind(walk, "0", "0"),
+        "Seeing": lambda: module("contexts").Seeing(walk, "0", "0"),
+        "Completion": lambda: module("checks").Completion(series),
+        "Clear": lambda: module("clear").Clear("0123", series.form),
+        "Crossing": lambda: module("crossings").Crossing(series, hand, series, most=0),
+        "Finding": lambda: module("finding").Finding(series, hand, most=0),
+        "Mending": lambda: module("mending").Mending(series, hand, most=0),
+        "Cases": lambda: module("cases").Cases(hand, 1),
+        "Weights": lambda: module("weights").Weights(module("hands").Hand("none", "01", ()), 2, 1),
+        "Trust": lambda: module("trust").Trust(way), "CleanWay": lambda: module("trust").CleanWay(way),
+        "Doubts": lambda: module("doubts").Doubts(way, 0), "Desks": lambda: module("desks").Desks(way, ()),
+        "Asking": lambda: module("asking").Asking(("0",), ((("long",), 1),)),
+        "Signatures": lambda: module("signatures").Signatures(walk, (("any",),)),
+        "Settling": lambda: module("settling").Settling(walk, (("any",),)),
+        "Close": lambda: module("close").Close(series, module("hands").Hand("none", "0123", ())),
+        "Book": lambda: module("books").Book((series,), ()),
+    }
+    thing = values[name]
+    return thing() if inspect.isfunction(thing) else thing
 
 
 class TestInterface(unittest.TestCase):
@@ -95,6 +152,13 @@ class TestInterface(unittest.TestCase):
         self.assertEqual(str(inspect.signature(walk.everything)), "(signs)")
         self.assertTrue(inspect.isgeneratorfunction(module("housetext").house_lines))
         self.assertTrue(inspect.isgeneratorfunction(module("ranks").numbers))
+        self.assertIsInstance(module("books").Book.__dict__["today"], property)
+
+    def test_attributes(self):
+        for name, words in ATTRIBUTES.items():
+            thing = made(name)
+            for word in words.split():
+                getattr(thing, word)
 
 
 if __name__ == "__main__":

@@ -2,8 +2,8 @@
 
 import random
 
-from brute import key_of, numbers_upto, slow_table
-from brute_ways import SlowTrust, lies_upto, slow_judge_deep, stories_upto
+from brute import key_of, numbers_upto, slow_judge, slow_table
+from brute_ways import SlowTrust, lies_upto, stories_upto
 from handcarried.errors import TooMany
 from handcarried.hands import Hand
 from handcarried.stories import clean_story
@@ -24,7 +24,7 @@ class TestTrust(Case):
         self.assertIs(bool(told), not any(slow.bad(entry) for entry in told.table))
         self.assertIs(bool(told), told.lie is None)
         self.same(lie_price(way, most=most), None if told else told.lie[0])
-        self.same(judge_trust(way, most, told.table), slow_judge_deep(slow, told.table))
+        self.same(judge_trust(way, most, told.table), slow_judge(slow, told.table))
         lies = lies_upto(way, numbers_upto(way.series, 3), most)
         if told.lie is None:
             self.assertEqual(lies, [])
@@ -203,7 +203,7 @@ class TestJudged(Case):
 
     def judged(self, table):
         told = judge_trust(self.way, 0, table)
-        self.same(told, slow_judge_deep(self.slow, table))
+        self.same(told, slow_judge(self.slow, table))
         return told
 
     def test_right_tables(self):
@@ -268,7 +268,7 @@ class TestJudged(Case):
             self.assertEqual(judge_trust(way, 1, (*table, entry)), len(table))
         for standing in range(len(way.series.walk)):
             entry = (standing, ("", standing), ("", dead), 1, "#")
-            self.same(judge_trust(way, 1, (*table, entry)), slow_judge_deep(SlowTrust(way, 1), (*table, entry)))
+            self.same(judge_trust(way, 1, (*table, entry)), slow_judge(SlowTrust(way, 1), (*table, entry)))
 
     def test_steps_that_lead_out_of_the_table(self):
         for k in range(len(self.table)):
@@ -284,7 +284,7 @@ class TestJudged(Case):
             for _ in range(5 if table else 0):
                 other = spoilt_deep(dice, table)
                 told.append(judge_trust(way, most, other))
-                self.same(told[-1], slow_judge_deep(slow, other))
+                self.same(told[-1], slow_judge(slow, other))
         self.assertTrue(None in told and -1 in told and 0 in told and 2 in told)
 
 
