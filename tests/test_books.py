@@ -240,6 +240,9 @@ class TestBook(Case):
         self.same([book.state("even", paper) for paper in ("", "0", "00", "11", "000", "1", "x", " ", "0" * 99, "Z")],
                   ["issued", "void", "issued", "aside", "none", "none", "none", "none", "none", "none"])
         self.same(book.state("wide", ""), "none")
+        book.do(("block", "south", "even", 2), ("block", "north", "wide", 2))
+        self.same([book.state("even", paper) for paper in ("11", "000", "011")], ["aside"] * 3)
+        self.same([book.state("wide", paper) for paper in ("", "0", "A", "000")], ["aside", "aside", "none", "none"])
         book.do(("again", "even", "0"), ("use", "north", "even"))
         self.same([book.state("even", paper) for paper in ("0", "11")], ["issued", "issued"])
 

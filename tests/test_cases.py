@@ -212,6 +212,13 @@ class TestLeastOrder(Case):
         self.same(least_order(SMALL, most=3), least_order(SMALL))
         self.same(least_order(SMALL, most=5), least_order(SMALL))
 
+    def test_up_to_three_if_nothing_else_is_told(self):
+        # Four signs lead apart to four standings at least.
+        hand = hand_of("0123", ("x", "y"))
+        order, square, trees = least_order(hand)
+        self.same((order, square, len(trees)), (None, None, 3))
+        self.same(least_order(hand, most=4), (4, ((0, 1, 2, 3), (1, 0, 3, 2), (2, 3, 0, 1), (3, 2, 1, 0)), trees))
+
     def test_without_a_square(self):
         self.same(least_order(SMALL, most=2), (None, None, (ONE, TWO)))
         self.same(least_order(SMALL, most=1), (None, None, (ONE,)))
@@ -229,7 +236,7 @@ class TestJudged(Case):
             deep = (deep,)
         for thing in (*ODD_THINGS, deep, "case", ("case",), ("case", 0, "0"), ("other", 0, "0", ()), (0, 0, "0", ()),
                       ("case", 0, "0", ONE, ONE), (None, 0, 1, "0"), ("twice", 0, 1, "0"), ("slip", 0, "0", "1"),
-                      (["case"], 0, "0", ())):
+                      (["case"], 0, "0", ()), ("other", 0, "0", "1"), ("twice", 0, "0", "1")):
             self.same(self.judged(thing), ())
             # The same within a tree.
             self.same(self.judged(with_tree(TWO, (0, 1, 1), thing) if thing != ("slip", 0, "01", "10") else ()),
@@ -263,7 +270,7 @@ class TestJudged(Case):
         self.same(self.judged(with_tree(TWO, (0, 1, 0), ("slip", 1, "01", "10"))), (0, 1, 0))
         for standing, before, behind in ((0, "0", "0"), (0, "1", "1"), (0, "00", "11"), (0, "10", "0"), (2, "0", "1"),
                                          (True, "0", "1"), (0, 0, 1), (0, None, None), (0, ("0",), ("1",)),
-                                         (0, "0", "1 "), (0, "0", ""), (-1, "0", "1"), (None, "0", "1")):
+                                         (0, "0", "1 "), (0, "0", ""), (-1, "0", "1"), (None, "0", "1"), (0, ["0"], "1"), (0, "0", ["1"]), (0, {}, "1")):
             self.same(self.judged(with_tree(TWO, (0, 0), ("slip", standing, before, behind))), (0, 0))
         self.assertIsNone(self.judged(with_tree(TWO, (0, 0), ("slip", 0, "1", "0"))))
         self.assertIsNone(self.judged(with_tree(TWO, (0, 0), ["slip", 0, "1", "0"])))

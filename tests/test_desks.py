@@ -137,6 +137,10 @@ class TestNeedlessDesks(Case):
         self.same(needless_desks(way), (0,))
         self.same(needless_desks(way, most=0), (0, 2))
         self.same(needless_desks(way, most=2), (0,))
+        # For a price of 1 nothing slips here at all.
+        dear = Hand("dear", "01", (("a", 2, (("x", "y"),)),))
+        self.same(needless_desks(way_of(EVEN, ("hand", dear), ("desk", EVEN))), (1,))
+        self.same(needless_desks(way_of(EVEN, ("hand", dear), ("desk", EVEN)), most=2), ())
         # Each of both alone will do, so both are needless.
         self.same(needless_desks(way_of(EVEN, ("hand", TURN), ("desk", EVEN), ("desk", EVEN))), (1, 2))
         # A lie price of another height.

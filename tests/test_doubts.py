@@ -58,6 +58,7 @@ class TestDoubts(Case):
         # What this desk stops the hand ahead of it did.
         self.assertTrue(self.check(way, 1))
         self.assertTrue(self.check(way, 1, 2))
+        self.same(Doubts(way, 1).table, Doubts(way, 1, most=1).table)
         told = self.check(way, 3)
         self.same(told.least, ("011", (), (2,)))
         self.assertTrue(all(len(trail[1]) == 4 for entry in told.table for trail in entry[:2]))
@@ -186,6 +187,23 @@ class TestJudged(Case):
         for lot in ((2,), (-1,), (0, 0), (1, 0), (True,), (False,), None, "", 0, ("0",), (0, 1, 2), ((0,),)):
             self.assertEqual(self.judged((*self.table, ((*one[:3], lot), other, over))), many)
             self.assertEqual(self.judged((*self.table, (one, (*other[:3], lot), over))), many)
+
+    def test_lots_of_other_numbers(self):
+        way = way_of(EVEN, ("hand", TURN), ("desk", EVEN))
+        slow = SlowDoubts(way, 1, 1)
+        table = Doubts(way, 1).table
+        self.assertIsNone(judge_doubts(way, 1, 1, table))
+
+        def with_lots(lot):
+            """The entries with another lot in the place of that of the hand; no step leads out of them."""
+            return tuple((*[(*trail[:3], lot if trail[3] else ()) for trail in entry[:2]], entry[2]) for entry in table)
+
+        for lot in ((0, 5), (0, 1), (-1, 0), (False,), (0, True), (1,), ("0",), (0, 0)):
+            for other in (table + with_lots(lot), with_lots(lot)):
+                told = judge_doubts(way, 1, 1, other)
+                self.assertIsNotNone(told)
+                self.same(told, slow_judge(slow, other))
+        self.assertIsNone(judge_doubts(way, 1, 1, table + with_lots([0])))
 
     def test_left_out_and_bad_entries(self):
         one = self.slow.beginning[0]

@@ -92,6 +92,11 @@ class TestSuspects(Case):
         self.same(surely(way, ("arrived", "1"), most=6), ())
         self.same(perhaps(way, ("arrived", "1"), most=6), (0, 1, 2))
         self.same(surely(way, ("arrived", "1")), (1,))
+        self.same((suspects(way, ("arrived", "1")), perhaps(way, ("arrived", "1"))), (((1, (1,)),), ()))
+        way = way_of(exactly("01", "0"), ("hand", TURN), ("hand", TURN), ("hand", hand))
+        self.same(perhaps(way, ("arrived", "1")), (0, 1))
+        self.same(perhaps(way, ("arrived", "1"), most=2), (0, 1, 2))
+        self.same(perhaps(way, ("arrived", "1"), most=0), ())
 
     def test_surely_and_perhaps(self):
         # A telephone that must hide what the hand did.

@@ -240,9 +240,11 @@ class TestJudged(Case):
 
     def test_states_without_their_form(self):
         many = len(self.table)
-        at, now, clean, spent, lag = self.table[5]
-        odd = (*ODD_THINGS, (0, "", 0), (0, "2"), (0, "00"), (True, ""), (1, ""), (0, None), "0", "1", "00", "2", ("", "="),
+        # No number ends at this entry, so that nothing else is wrong with it than what is exchanged.
+        at, now, clean, spent, lag = [entry for entry in self.table if entry[0] == 1 and entry[1][1][1] == "0"][-1]
+        odd = (*ODD_THINGS, 1, 2, (1, ""), (0, "", 0), (0, "2"), (0, "00"), (True, ""), (1, ""), (0, None), "0", "1", "00", "2", ("", "="),
                ("0", "="), ("", "=="), ("01", "="), ("2", "="), (None, "="), ("", None), (0, "="), ["", "="], [0, ""], [""],
+               (-1, ""), (-1, "0"), (0, "0"), (0, "1"), (1, "0"), (0, "01"), (0, ("0",)), (0, ["0"]), ("0", "0"), (None, "0"),
                ("", "+"), ("", "-01"), ("", "+2"), ("", "#"), (1,), ((), ()), 10 ** 39)
         for k in range(5):
             for thing in odd:
@@ -345,6 +347,13 @@ class TestCleanWay(Case):
         self.same(CleanWay(way_of(exactly("01", "10"), ("clerk", exactly("01", "01")), ("desk", NONE))).stopped, ("10", 0))
         self.same(CleanWay(way_of(ALL, ("clerk", exactly("01", "01")), ("spell", ("00", "00"), "", ""),
                                   ("echo", TURN, 0))).stopped, ("", 0))
+
+    def test_echoes_that_are_never_reached(self):
+        # All papers are stopped by the clerk, and the papers that the echo would compare differ ever more.
+        zeros = free_series("zeros", "01", ("square", ((0, 1), (1, 1)), (0,)))
+        doubled = ("spell", ("00", "11"), "", "")
+        self.same(CleanWay(way_of(zeros, ("clerk", NONE), doubled, ("echo", TURN, 0))).stopped, ("", 0))
+        self.same(CleanWay(way_of(zeros, doubled, ("echo", TURN, 0))).stopped, ("0", 1))
 
     def test_long_numbers(self):
         whole = rounds(60)
