@@ -41,7 +41,7 @@ class Filling:
     def __init__(self, hand, order):
         self.order = order
         self.signs = hand.signs
-        self.rows = [[None for _ in hand.signs] for _ in range(order)]
+        self.rows = [[None] * len(hand.signs) for _ in range(order)]
         self.pairs = {(before, behind): True for before, behind, _ in hand.pairs}
 
     def end_of(self, paper, standing):

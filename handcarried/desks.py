@@ -83,14 +83,15 @@ def ordered_lots(gaps):
     lots = [()]
     for number in range(len(gaps)):
         lots = [*lots, *[(*lot, number) for lot in lots]]
-    return sorted([(sum([gaps[number][2] for number in lot]), len(lot), lot) for lot in lots])
+    prices = [price for _, _, price in gaps]
+    return sorted([(sum([prices[gap] for gap in lot]), len(lot), lot) for lot in lots])
 
 
 def built_way(way, gaps, lot):
     """The way with the desks of a lot of gaps; TooMany("station")."""
     if len(way) + len(lot) > MOST_STATIONS:
         raise TooMany("station")
-    chosen = [gaps[number] for number in sorted(lot)]
+    chosen = [gaps[gap] for gap in sorted(lot)]
     stations = []
     papers = [0]
     for number in range(len(way) + 1):

@@ -74,5 +74,4 @@ def settling_numbers(flags, many):
             told = {tuple([flags[number][lot] for number in numbers]): True for lot in range(many)}
             if len(told) == many:
                 return numbers
-        chosen = [(*numbers, number) for numbers in chosen
-                  for number in range(numbers[-1] + 1 if numbers else 0, len(flags))]
+        chosen = [(*some, number) for some in chosen for number in range(some[-1] + 1 if some else 0, len(flags))]

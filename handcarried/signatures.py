@@ -18,7 +18,7 @@ def fitting(signs, rules, seen):
     for paper, _ in seen:
         require_paper(signs, paper)
     return tuple([number for number, rule in enumerate(told)
-                  if all([finds_right(signs, rule, paper) == (flag == 1) for paper, flag in seen])])
+                  if all([finds_right(signs, rule, one) == (flag == 1) for one, flag in seen])])
 
 
 class ShownPoint:
