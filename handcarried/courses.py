@@ -1,57 +1,18 @@
-"""The course of a number through some stations, sign by sign, in all stories and in the clean one ([25])."""
+"""The course of a number through some stations, sign by sign, in the clean story and in all stories ([25])."""
 
 from handcarried.stations import made_station
 
 
-class Course:
-    """Some stations, one behind the other; their states together are a tuple.
+class CleanCourse:
+    """Some stations, one behind the other, in the clean story; their states together are a tuple."""
 
-    With blaming it is told which stations slip. With telling the texts of all papers are told; otherwise only what
-    the last station writes surely is.
-    """
-
-    def __init__(self, signs, stations, *, blaming=False, telling=False):
+    def __init__(self, signs, stations):
         self.stations = [made_station(signs, station) for station in stations]
         self.beginning = tuple([station.beginning for station in self.stations])
-        self.blaming = blaming
-        self.needed = needed_texts(stations, telling)
-        self.known = {}
         self.known_clean = {}
 
-    def goings(self, states, sign, left):
-        """All that the stations can do for at most a price when the number goes on by a sign.
-
-        Told are tuples (price, slipped, states, texts).
-        """
-        key = (states, sign, left)
-        if key not in self.known:
-            self.known[key] = self.gone_on(states, sign, left, False)
-        return self.known[key]
-
-    def endings(self, states, left):
-        """The same when the number ends, and no station stops the paper."""
-        key = (states, "", left)
-        if key not in self.known:
-            self.known[key] = self.gone_on(states, "", left, True)
-        return self.known[key]
-
-    def gone_on(self, states, text, left, ending):
-        """What the stations can do when paper 0 goes on by a text, and perhaps ends then."""
-        done = {(0, (), (), (text,)): True}
-        for number, station in enumerate(self.stations):
-            further = {}
-            for spent, slipped, behind, texts in done:
-                for price, state, written in station.goings(states[number], texts, left - spent):
-                    more = written_more(station, state, ending)
-                    if more is not None:
-                        lot = (*slipped, number) if self.blaming and price > 0 else slipped
-                        kept = [told if need else "" for told, need in zip(texts, self.needed[number])]
-                        further[spent + price, lot, (*behind, state), (*kept, written + more)] = True
-            done = further
-        return list(done)
-
     def clean_going(self, states, sign):
-        """In the clean story, where all stations go on: the states, and what the last station writes."""
+        """The states behind a sign of the number, and what the last station writes; all stations go on."""
         key = (states, sign)
         if key not in self.known_clean:
             behind = []
@@ -74,6 +35,89 @@ class Course:
             texts.append(written + more)
         return None, texts[-1]
 
+
+class Course(CleanCourse):
+    """The same in all stories, and what a watcher sees of the papers.
+
+    A watcher tells by papers (an attribute) which papers it watches, and by sees(seen, number, sign) what it has
+    seen when the paper with this number has gone on by a sign; None if this story is not looked for.
+    A stand is a tuple (price, slipped, states, seen): what has been paid and who has slipped since the beginning, and
+    what there is now. Stands that have come to be equal are one, so that there never are very many.
+    """
+
+    def __init__(self, signs, stations, watcher, *, blaming=False):
+        CleanCourse.__init__(self, signs, stations)
+        self.watcher = watcher
+        self.blaming = blaming
+        self.echoes = {}
+        for number, station in enumerate(stations):
+            if station[0] == "echo":
+                self.echoes.setdefault(station[2], []).append(number)
+        self.known = {}
+
+    def goings(self, states, sign, left, seen):
+        """All stands behind a sign of the number that cost at most a price."""
+        key = (states, sign, left, seen)
+        if key not in self.known:
+            self.known[key] = self.behind_sign([(0, (), states, seen)], 0, sign, left)
+        return self.known[key]
+
+    def endings(self, states, left, seen):
+        """All stands when the number has ended and no station stops the paper."""
+        key = (states, "", left, seen)
+        if key not in self.known:
+            stands = [(0, (), states, seen)]
+            for number, station in enumerate(self.stations):
+                writing = {}
+                for stand in stands:
+                    text = station.ended(stand[2][number])
+                    if text is not None:
+                        writing.setdefault(text, []).append(stand)
+                stands = self.behind_texts(writing, number + 1, left)
+            self.known[key] = stands
+        return self.known[key]
+
+    def behind_texts(self, writing, number, left):
+        """The stands when a paper has gone on by texts; writing has for each text the stands ahead of it."""
+        out = {}
+        for text, ahead in writing.items():
+            stands = list(ahead)
+            for sign in text:
+                stands = self.behind_sign(stands, number, sign, left)
+            for stand in stands:
+                out[stand] = True
+        return list(out)
+
+    def behind_sign(self, stands, number, sign, left):
+        """The stands when a paper has gone on by a sign, and so all that is written for it by the stations behind."""
+        noticed = self.noticed(stands, number, sign)
+        if number == len(self.stations):
+            return noticed
+        station = self.stations[number]
+        writing = {}
+        for spent, slipped, states, seen in noticed:
+            for price, state, text in station.readings(states[number], sign):
+                if spent + price <= left and not station.left_out(state):
+                    lot = with_slip(slipped, number) if self.blaming and price > 0 else slipped
+                    behind = (*states[:number], state, *states[number + 1:])
+                    writing.setdefault(text, {})[spent + price, lot, behind, seen] = True
+        return self.behind_texts(writing, number + 1, left)
+
+    def noticed(self, stands, number, sign):
+        """The stands when echoes have compared with a paper that went on by a sign, and the watcher has seen it."""
+        echoes = self.echoes.get(number, [])
+        watched = number in self.watcher.papers
+        if not echoes and not watched:
+            return stands
+        out = []
+        for spent, slipped, states, seen in stands:
+            told = [station.compared(state, sign) if at in echoes else state
+                    for at, (station, state) in enumerate(zip(self.stations, states))]
+            now = self.watcher.sees(seen, number, sign) if watched else seen
+            if now is not None and not self.any_left_out(told):
+                out.append((spent, slipped, tuple(told), now))
+        return out
+
     def any_left_out(self, states):
         """Whether one of the states is one that no story that arrives has."""
         return any([station.left_out(state) for station, state in zip(self.stations, states)])
@@ -85,15 +129,6 @@ class Course:
         return None if None in states else tuple(states)
 
 
-def written_more(station, state, ending):
-    """What a station writes behind what it has read, None if it lets no paper by."""
-    if station.left_out(state):
-        return None
-    return station.ended(state) if ending else ""
-
-
-def needed_texts(stations, telling):
-    """For each station whether the texts of the papers up to the one that it reads are needed behind it."""
-    echoed = [{station[2]: True} if station[0] == "echo" else {} for station in stations]
-    return [[telling or any([paper in compared for compared in echoed[number + 1:]]) for paper in range(number + 1)]
-            for number in range(len(stations))]
+def with_slip(lot, number):
+    """A lot with one more number, which it may have already."""
+    return lot if number in lot else tuple(sorted([*lot, number]))

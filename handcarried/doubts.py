@@ -11,6 +11,22 @@ from handcarried.tables import grown_table, is_price, judge_table, net_of
 from handcarried.ways import copying_stations
 
 
+class LeadingLag:
+    """Watches what comes to the point; what it sees is its lag with what came in another story, and the desk there."""
+
+    def __init__(self, number, desk):
+        self.papers = (number,)
+        self.desk = desk
+
+    def sees(self, seen, number, sign):
+        """The lag goes on, if the two have not parted, and so does the desk."""
+        over, at = seen
+        further = lag_on(over, sign, "")
+        if further == "#":
+            return None
+        return further, at if self.desk is None else self.desk.clean_going(at, [sign])[0]
+
+
 class DoubtPoint:
     """What the table of a point of a way has as entries, and the steps between them."""
 
@@ -20,8 +36,8 @@ class DoubtPoint:
         self.walk = way.series.walk
         self.lively = {at: True for at in self.walk.live}
         self.most = most
-        self.course = Course(way.signs, way.stations[:point], blaming=True)
         self.desk = DeskStation(way.stations[point][1]) if point < len(way) else None
+        self.course = Course(way.signs, way.stations[:point], LeadingLag(point, self.desk), blaming=True)
         self.slipping = copying_stations(way.stations[:point])
         states = self.course.beginning
         trail = (0, states if self.desk is None else (*states, self.desk.beginning), 0, ())
@@ -69,7 +85,7 @@ class DoubtPoint:
 
     def can_end(self, trail):
         """Whether the number of a trail can end here, so that its paper comes to the point and is seen there."""
-        endings = self.course.endings(self.states_ahead(trail), self.most - trail[2])
+        endings = self.course.endings(self.states_ahead(trail), self.most - trail[2], ("=", 0))
         if trail[0] not in self.walk.goals or not endings:
             return False
         return self.desk is None or self.desk.ended(trail[1][-1]) is None
@@ -78,34 +94,48 @@ class DoubtPoint:
         """The states of the stations ahead of the point."""
         return trail[1][:len(self.course.stations)]
 
-    def trails_behind(self, trail):
-        """What follows each sign of the number of a trail: tuples (text, trail)."""
+    def trails_behind(self, trail, over):
+        """What follows each sign of the number of a trail: tuples (trail, lag), for its lag with the other one."""
         at, now, spent, slipped = trail
+        standing = 0 if self.desk is None else now[-1]
         out = []
         for sign, to in zip(self.signs, self.walk.rows[at]):
             if to in self.lively:
-                for price, lot, states, texts in self.course.goings(self.states_ahead(trail), sign, self.most - spent):
-                    behind = (*states, *self.desk_behind(now, texts))
-                    out.append((texts[-1], (to, behind, spent + price, united(slipped, lot))))
+                stands = self.course.goings(self.states_ahead(trail), sign, self.most - spent, (over, standing))
+                for price, lot, states, (further, seen) in stands:
+                    behind = states if self.desk is None else (*states, seen)
+                    out.append(((to, behind, spent + price, united(slipped, lot)), further))
         return out
-
-    def desk_behind(self, now, texts):
-        """The standing of the desk at the point, behind what comes to it; nothing if the point is no desk."""
-        return () if self.desk is None else (self.desk.clean_going(now[-1], texts)[0],)
 
     def moves(self, entry):
         """The steps of an entry, which tell what comes to the point in the first story."""
         one, other, over = entry
         out = []
         if over == "=" or over.startswith("-"):
-            out.extend([((text,), (behind, other, lag_on(over, text, ""))) for text, behind in self.trails_behind(one)])
+            out.extend([((text_between(over, further),), (behind, other, further))
+                        for behind, further in self.trails_behind(one, over)])
         if over == "=" or over.startswith("+"):
-            out.extend([(("",), (one, behind, lag_on(over, "", text))) for text, behind in self.trails_behind(other)])
+            out.extend([(("",), (one, behind, turned(further)))
+                        for behind, further in self.trails_behind(other, turned(over))])
         return out
 
     def steps(self, entry):
         """The entries behind an entry."""
         return [behind for _, behind in self.moves(entry)]
+
+
+def turned(lag):
+    """The lag of the same two papers the other way round."""
+    if lag.startswith("+"):
+        return "-" + lag[1:]
+    return "+" + lag[1:] if lag.startswith("-") else lag
+
+
+def text_between(over, further):
+    """The text by which the first of two papers has gone on from a lag, in which it was not ahead, to another one."""
+    if further.startswith("-"):
+        return over[1:len(over) - len(further) + 1]
+    return over[1:] + further[1:]
 
 
 class Doubts:

@@ -55,6 +55,18 @@ def ordered_suspects(way, point, paper, most, bound):
     return tuple(sorted([(price, lot) for lot, price in prices.items()]))
 
 
+class Matching:
+    """Watches a paper that should become a told one; what it sees is how many signs have been written."""
+
+    def __init__(self, number, paper):
+        self.papers = (number,)
+        self.paper = paper
+
+    def sees(self, seen, number, sign):
+        """One sign more, if it is the right one."""
+        return seen + 1 if self.paper.startswith(sign, seen) else None
+
+
 class SightSearch:
     """The stories in which a paper comes to a point, gone through sign by sign.
 
@@ -66,9 +78,9 @@ class SightSearch:
         self.signs = way.signs
         self.walk = way.series.walk
         self.lively = {at: True for at in self.walk.live}
-        self.paper = paper
+        self.whole = len(paper)
         self.most = most
-        self.course = Course(way.signs, way.stations[:point], blaming=True)
+        self.course = Course(way.signs, way.stations[:point], Matching(point, paper), blaming=True)
 
     def prices_of_lots(self, bound):
         """For each lot of stations that slip in some story with this end the least price; TooMany("suspect")."""
@@ -93,10 +105,9 @@ class SightSearch:
     def steps(self, node):
         """The nodes behind a node."""
         at, states, spent, slipped, written = node
-        return [(to, behind, spent + price, united(slipped, lot), written + len(texts[-1]))
+        return [(to, behind, spent + price, united(slipped, lot), seen)
                 for sign, to in zip(self.signs, self.walk.rows[at]) if to in self.lively
-                for price, lot, behind, texts in self.course.goings(states, sign, self.most - spent)
-                if self.paper.startswith(texts[-1], written)]
+                for price, lot, behind, seen in self.course.goings(states, sign, self.most - spent, written)]
 
     def ends(self, node):
         """The prices and lots of the stories that end here with the paper."""
@@ -104,8 +115,8 @@ class SightSearch:
         if at not in self.walk.goals:
             return []
         return [(spent + price, united(slipped, lot))
-                for price, lot, _, texts in self.course.endings(states, self.most - spent)
-                if self.paper[written:] == texts[-1]]
+                for price, lot, _, seen in self.course.endings(states, self.most - spent, written)
+                if seen == self.whole]
 
 
 def united(lot, more):

@@ -2,9 +2,10 @@
 
 A station is an object that tells:
 beginning (an attribute): its state at the beginning;
-goings(state, texts, left): all that it can do for at most a price when papers go on by texts, of which it reads the
-last one: tuples (price, state, written), some of which may be left out;
-clean_going(state, texts): the state and what is written in the clean story, where nothing stops;
+readings(state, sign): all that it can do when it reads a sign: tuples (price, state, written), some of which may be
+left out;
+clean_going(state, texts): the state and what is written in the clean story, where nothing stops, when the papers go on
+by texts, of which it reads the last one;
 left_out(state): whether no story that arrives has this state;
 ended(state): what is written at the end, None if the paper is stopped;
 state_of(thing), clean_state_of(thing): the state that a thing is, as tuples; None if it does not have the form.
@@ -18,9 +19,9 @@ from handcarried.walks import standing_behind
 class PlainStation:
     """A station without choices: what it can do is what it does in the clean story."""
 
-    def goings(self, state, texts, left):
+    def readings(self, state, sign):
         """The one thing that it can do."""
-        return [(0, *self.clean_going(state, texts))]
+        return [(0, *self.clean_going(state, [sign]))]
 
     def clean_state_of(self, thing):
         """The same as in other stories."""
@@ -40,13 +41,9 @@ class HandStation:
             if signs != "":
                 self.choices.setdefault((signs[:-1], signs[-1]), []).append((0, signs, ""))
 
-    def goings(self, state, texts, left):
-        """Each choice for each sign that is read."""
-        done = {(0, state, ""): True}
-        for sign in texts[-1]:
-            done = {(spent + price, signs, written + more): True for spent, here, written in done
-                    for price, signs, more in self.choices.get((here, sign), []) if spent + price <= left}
-        return list(done)
+    def readings(self, state, sign):
+        """Each choice for the sign."""
+        return self.choices.get((state, sign), [])
 
     def clean_going(self, state, texts):
         """Each sign is written."""
@@ -167,10 +164,14 @@ class EchoStation:
         self.hand = HandStation(hand)
         self.paper = paper
 
-    def goings(self, state, texts, left):
+    def readings(self, state, sign):
         """Each choice of the hand."""
-        return [(price, (signs, lag_on(state[1], written, texts[self.paper])), texts[-1])
-                for price, signs, written in self.hand.goings(state[0], texts, left)]
+        return [(price, (signs, lag_on(state[1], written, "")), sign)
+                for price, signs, written in self.hand.readings(state[0], sign)]
+
+    def compared(self, state, sign):
+        """The state when the paper with which it compares has gone on by a sign."""
+        return state[0], lag_on(state[1], "", sign)
 
     def clean_going(self, state, texts):
         """The hand writes each sign."""

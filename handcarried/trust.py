@@ -1,13 +1,36 @@
 """Ways that are trusted, their tables and lies ([24] to [26]), and ways that are clean ([27])."""
 
-from handcarried.courses import Course
+from handcarried.courses import CleanCourse, Course
 from handcarried.kinds import is_tuple_of, is_within
 from handcarried.nets import Texts
 from handcarried.papers import is_lag, lag_on, paper_key
 from handcarried.tables import grown_table, is_price, judge_table, net_of
+from handcarried.walks import standing_behind
 
 # Behind all entries that tell a lie: it is no standing, so it is none of them.
 LIE = (-1, (), (), 0, "")
+
+
+class ArrivalLag:
+    """Watches what arrives; what it sees is the lag of that and of what arrives in the clean story."""
+
+    def __init__(self, way):
+        self.papers = (len(way),)
+
+    def sees(self, seen, number, sign):
+        """The lag goes on."""
+        return lag_on(seen, sign, "")
+
+
+class AllTexts:
+    """Watches all papers; what it sees is the tuple of what has been written on each of them."""
+
+    def __init__(self, way):
+        self.papers = tuple(list(range(len(way) + 1)))
+
+    def sees(self, seen, number, sign):
+        """One of the texts goes on."""
+        return (*seen[:number], seen[number] + sign, *seen[number + 1:])
 
 
 class TrustPoint:
@@ -18,7 +41,7 @@ class TrustPoint:
         self.walk = way.series.walk
         self.lively = {at: True for at in self.walk.live}
         self.most = most
-        self.course = Course(way.signs, way.stations)
+        self.course = Course(way.signs, way.stations, ArrivalLag(way))
         self.beginning = (0, self.course.beginning, self.course.beginning, 0, "=")
 
     def entry_of(self, thing):
@@ -40,33 +63,31 @@ class TrustPoint:
 
     def bad(self, entry):
         """Whether the number can end here with a lie."""
-        return len(self.lies(entry, self.course)) > 0
+        return len(self.lie_prices(entry)) > 0
 
-    def lies(self, entry, course):
-        """The endings, as a course tells them, with which the number ends in a lie, for at most the price."""
+    def lie_prices(self, entry):
+        """The prices of the endings with which the number ends in a lie, for at most the price."""
         at, now, clean, spent, lag = entry
         if at not in self.walk.goals:
             return []
-        endings = course.endings(now, self.most - spent)
-        stopped, written = self.course.clean_ending(clean)
-        return [ending for ending in endings if stopped is not None or lag_on(lag, ending[3][-1], written) != "="]
+        ahead = self.ended_lag(clean, lag)
+        return [price for price, _, _, seen in self.course.endings(now, self.most - spent, ahead) if seen != "="]
 
-    def goings(self, entry, value, course):
-        """What follows a sign of the number, as a course tells it: tuples (texts, entry)."""
-        at, now, clean, spent, lag = entry
-        sign = self.signs[value]
-        to = self.walk.rows[at][value]
-        clean_to, written = self.course.clean_going(clean, sign)
-        return [(texts, (to, states, clean_to, spent + price, lag_on(lag, texts[-1], written)))
-                for price, _, states, texts in course.goings(now, sign, self.most - spent)]
+    def ended_lag(self, clean, lag):
+        """The lag when the clean story has ended; if it is stopped, whatever arrives differs from it."""
+        stopped, written = self.course.clean_ending(clean)
+        return lag_on(lag, "", written) if stopped is None else "#"
 
     def moves(self, entry):
         """The steps of an entry, which tell the sign by which the number goes on."""
+        at, now, clean, spent, lag = entry
         out = []
-        for value, to in enumerate(self.walk.rows[entry[0]]):
+        for sign, to in zip(self.signs, self.walk.rows[at]):
             if to in self.lively:
-                found = {behind: True for _, behind in self.goings(entry, value, self.course)}
-                out.extend([((self.signs[value],), behind) for behind in found])
+                clean_to, written = self.course.clean_going(clean, sign)
+                stands = self.course.goings(now, sign, self.most - spent, lag_on(lag, "", written))
+                out.extend([((sign,), (to, states, clean_to, spent + price, seen))
+                            for price, _, states, seen in stands])
         return out
 
     def steps(self, entry):
@@ -121,9 +142,9 @@ def prices_of_lies(point, ways):
     """For each bad entry of a table the least price of a lie with which the number ends there."""
     prices = {}
     for entry in ways:
-        lies = point.lies(entry, point.course)
-        if lies:
-            prices[entry] = entry[3] + min([lie[0] for lie in lies])
+        more = point.lie_prices(entry)
+        if more:
+            prices[entry] = entry[3] + min(more)
     return prices
 
 
@@ -141,25 +162,48 @@ def least_lie(way, point, ways):
     ends = [entry for entry, cost in prices.items() if cost == price]
     number, net = Texts(net_of(point, ways), ends, 0).least_from(point.beginning)
     papers = [number]
-    net = telling_net(way, point, net, price)
+    net = Telling(way, point, price).net_of_lies(net)
     while len(papers) <= len(way):
         paper, net = Texts(net, [LIE], len(papers)).least_from(point.beginning)
         papers.append(paper)
     return price, tuple(papers)
 
 
-def telling_net(way, point, net, price):
-    """The net of the ways to the cheapest lies of the least number, whose steps tell the texts of all papers."""
-    course = Course(way.signs, way.stations, telling=True)
-    out = {}
-    for entry, steps in net.items():
-        behind = {to: True for _, to in steps}
-        signs = sorted({told[0] for told, _ in steps})
-        out[entry] = [(texts, to) for sign in signs for texts, to in point.goings(entry, way.signs.index(sign), course)
-                      if to in behind]
-        if not steps:
-            out[entry] = [(lie[3], LIE) for lie in point.lies(entry, course) if entry[3] + lie[0] == price]
-    return out
+class Telling:
+    """What all papers of a way go on by in the steps of its table, and when the number ends in a lie for a price."""
+
+    def __init__(self, way, point, price):
+        self.point = point
+        self.price = price
+        self.course = Course(way.signs, way.stations, AllTexts(way))
+        self.nothing = tuple(["" for _ in range(len(way) + 1)])
+
+    def net_of_lies(self, net):
+        """A net whose steps tell the signs of the least number, with steps that tell the texts of all papers."""
+        out = {}
+        for entry, steps in net.items():
+            signs = sorted({told[0] for told, _ in steps})
+            behind = {to: True for _, to in steps}
+            out[entry] = [(texts, to) for sign in signs for texts, to in self.goings(entry, sign) if to in behind]
+            if not steps:
+                out[entry] = [(texts, LIE) for texts in self.lies(entry)]
+        return out
+
+    def goings(self, entry, sign):
+        """What follows a sign of the number: tuples (texts, entry)."""
+        at, now, clean, spent, lag = entry
+        to = standing_behind(self.point.walk, sign, at)
+        clean_to, written = self.point.course.clean_going(clean, sign)
+        return [(texts, (to, states, clean_to, spent + price, lag_on(lag, texts[-1], written)))
+                for price, _, states, texts in self.course.goings(now, sign, self.price - spent, self.nothing)]
+
+    def lies(self, entry):
+        """The texts of the endings with which the number ends in a lie for just the price."""
+        _, now, clean, spent, lag = entry
+        ahead = self.point.ended_lag(clean, lag)
+        left = self.price - spent
+        return [texts for more, _, _, texts in self.course.endings(now, left, self.nothing)
+                if more == left and lag_on(ahead, texts[-1], "") != "="]
 
 
 def least_stopped_by(way, k, stopped):
@@ -167,7 +211,7 @@ def least_stopped_by(way, k, stopped):
 
     Numbers that a clerk ahead of it stops need not be told, nor those of more signs than one that is stopped already.
     """
-    course = Course(way.signs, writing_stations(way.stations, k))
+    course = CleanCourse(way.signs, writing_stations(way.stations, k))
     last = len(course.stations) - 1
     walk = way.series.walk
     lively = {at: True for at in walk.live}

@@ -161,6 +161,20 @@ class TestTrust(Case):
         self.same(lie_price(way_of(ALL, ("hand", TURN))), 1)
         self.same(lie_price(way_of(ALL, ("hand", dear))), None)
 
+    def test_many_slips_in_long_papers(self):
+        double = ("spell", ("00", "11"), "", "")
+        told = Trust(way_of(ALL, *[double] * 9, ("hand", TURN)), most=6)
+        self.same(told.table, tuple(
+            (0, (*[on] * 9, ""), (*[on] * 9, ""), spent, "=" if spent == 0 else "#")
+            for on in (0, 1) for spent in range(7) if on or not spent))
+        papers = ["0" * 2 ** k for k in range(10)]
+        self.same(told.lie, (1, (*papers, "0" * 511 + "1")))
+        way = way_of(exactly("01", "1"), *[double] * 5, ("hand", TURN), ("desk", EVEN), ("hand", TURN), ("hand", TURN))
+        told = Trust(way, most=6)
+        self.same(told.lie[0], 1)
+        self.same(judge_trust(way, 0, Trust(way, most=0).table), None)
+        self.assertEqual({entry[3] for entry in told.table}, set(range(7)))
+
     def test_the_house(self):
         series = example_series()
         hand = example_hand()
