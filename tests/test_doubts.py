@@ -4,9 +4,10 @@ import random
 
 from brute import key_of, papers_upto, slow_judge, slow_table
 from brute_ways import SlowDoubts
-from handcarried.doubts import Doubts, judge_doubts
+from handcarried.doubts import Doubts, judge_doubts, text_between, turned
 from handcarried.errors import BadPoint, TooMany, Unfit
 from handcarried.hands import Hand
+from handcarried.papers import lag_on
 from handcarried.series import Series
 from handcarried.sights import suspects
 from helpers import ODD_THINGS, Case, example_hand, example_series
@@ -92,6 +93,15 @@ class TestDoubts(Case):
         # The first trail need not be the one that costs less.
         way = way_of(exactly("01", "0", "1"), ("hand", TURN))
         self.same(self.check(way, 1).least, ("0", (), (0,)))
+
+    def test_what_the_first_story_writes(self):
+        for over, text in (("=", ""), ("=", "01"), ("-0120", ""), ("-0120", "0"), ("-0120", "012"), ("-0120", "0120"),
+                           ("-01", "0122"), ("-01", "012")):
+            further = lag_on(over, text, "")
+            self.same(text_between(over, further), text)
+            self.same(lag_on(turned(over), "", text), turned(further))
+        for one, other in (("=", "="), ("#", "#"), ("+01", "-01"), ("-2", "+2")):
+            self.same((turned(one), turned(other)), (other, one))
 
     def test_papers_of_more_than_sixty_signs(self):
         form = (*[("run", name, "0", 12, 12) for name in "abcde"], ("run", "f", "0", 11, 12))

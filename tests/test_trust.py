@@ -136,6 +136,13 @@ class TestTrust(Case):
         self.same(self.check(way, 3).lie, (3, ("1", "111", "000", "000")))
         self.assertTrue(self.check(way, 2))
 
+    def test_slips_at_the_end_that_bring_the_paper_back(self):
+        # For the price of the lie two other slips change nothing: what they write is no lie, though it is less.
+        hand = Hand("some", "012", (("a", 1, (("1", ""), ("1", "11"))), ("b", 2, (("11", "22"),))))
+        way = way_of(exactly("012", "0"), ("spell", ("0", "1", "2"), "", "11"), ("hand", hand),
+                     ("desk", exactly("012", "011", "022")))
+        self.same(self.check(way, 2).lie, (2, ("0", "011", "022", "022")))
+
     def test_price_then_number_then_papers(self):
         hand = Hand("some", "01", (("a", 2, (("0", "1"),)), ("b", 1, (("11", "0"), ("11", "00")))))
         self.same(self.check(way_of(ALL, ("hand", hand)), 3).lie, (1, ("11", "0")))
