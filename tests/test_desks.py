@@ -119,6 +119,8 @@ class TestWithoutDesk(Case):
         for thing in (*ODD_THINGS, 0, 2, 3, 4, 5, 6, -1, -4, True, 1.0, "1", (1,), 10 ** 39):
             self.raises(BadPoint, {"point": thing}, without_desk, way, thing)
         self.assertEqual(len(without_desk(way, 1)), 4)
+        for thing in (-1, -2, 2):
+            self.raises(BadPoint, {"point": thing}, without_desk, way_of(ALL, ("desk", EVEN), ("desk", ALL)), thing)
 
 
 class TestNeedlessDesks(Case):

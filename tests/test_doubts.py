@@ -117,6 +117,9 @@ class TestDoubts(Case):
                       (1,), None, 10 ** 39):
             self.raises(BadPoint, {"point": point}, Doubts, way, point)
             self.raises(BadPoint, {"point": point}, judge_doubts, way, point, 1, None)
+        last = way_of(ALL, ("desk", EVEN), ("desk", EVEN))
+        for point in (-1, -2, 3):
+            self.raises(BadPoint, {"point": point}, Doubts, last, point)
         for point in (3, 5):
             self.raises(Unfit, {"what": "station"}, Doubts, way, point)
             self.raises(Unfit, {"what": "station"}, judge_doubts, way, point, 1, None)

@@ -147,6 +147,9 @@ class TestSuspects(Case):
             for call in (suspects, surely, perhaps):
                 self.raises(BadSight, {"sight": sight}, call, way, sight)
                 self.raises(BadSight, {"sight": sight}, call, way, sight, most=0)
+        last = way_of(ALL, ("desk", EVEN))
+        for k in (-1, 1, 2):
+            self.raises(BadSight, {}, suspects, last, ("stopped", k, "0"))
         for sight in (("arrived", ""), ["arrived", "0"], ["stopped", 1, "1" * 60], ("stopped", 1, "")):
             suspects(way, sight, most=0)
 

@@ -263,7 +263,7 @@ class TestJudged(Case):
         many = len(self.table)
         # No number ends at this entry, so that nothing else is wrong with it than what is exchanged.
         at, now, clean, spent, lag = [entry for entry in self.table if entry[0] == 1 and entry[1][1][1] == "0"][-1]
-        odd = (*ODD_THINGS, 1, 2, (1, ""), (0, "", 0), (0, "2"), (0, "00"), (True, ""), (1, ""), (0, None), "0", "1", "00", "2", ("", "="),
+        odd = (*ODD_THINGS, 1, 2, (0,), (1, ""), (0, "", 0), (0, "2"), (0, "00"), (True, ""), (1, ""), (0, None), "0", "1", "00", "2", ("", "="),
                ("0", "="), ("", "=="), ("01", "="), ("2", "="), (None, "="), ("", None), (0, "="), ["", "="], [0, ""], [""],
                (-1, ""), (-1, "0"), (0, "0"), (0, "1"), (1, "0"), (0, "01"), (0, ("0",)), (0, ["0"]), ("0", "0"), (None, "0"),
                ("", "+"), ("", "-01"), ("", "+2"), ("", "#"), (1,), ((), ()), 10 ** 39)
