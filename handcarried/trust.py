@@ -5,10 +5,7 @@ from handcarried.kinds import is_tuple_of, is_within
 from handcarried.nets import Texts
 from handcarried.papers import is_lag, lag_on, paper_key
 from handcarried.tables import grown_table, is_price, judge_table, net_of
-from handcarried.walks import standing_behind
-
-# Behind all entries that tell a lie: it is no standing, so it is none of them.
-LIE = (-1, (), (), 0, "")
+from handcarried.tellings import Telling
 
 
 class ArrivalLag:
@@ -20,17 +17,6 @@ class ArrivalLag:
     def sees(self, seen, number, sign):
         """The lag goes on."""
         return lag_on(seen, sign, "")
-
-
-class AllTexts:
-    """Watches all papers; what it sees is the tuple of what has been written on each of them."""
-
-    def __init__(self, way):
-        self.papers = tuple(list(range(len(way) + 1)))
-
-    def sees(self, seen, number, sign):
-        """One of the texts goes on."""
-        return (*seen[:number], seen[number] + sign, *seen[number + 1:])
 
 
 class TrustPoint:
@@ -102,7 +88,7 @@ class Trust:
         point = TrustPoint(way, most)
         ways = grown_table(point)
         self.table = tuple(sorted(ways))
-        self.lie = least_lie(way, point, ways)
+        self.lie = least_lie(point, ways)
 
     def __bool__(self):
         return self.lie is None
@@ -153,57 +139,15 @@ def price_of_lies(prices):
     return min(list(prices.values()), default=None)
 
 
-def least_lie(way, point, ways):
+def least_lie(point, ways):
     """The price and the papers of the least lie that the entries of a table tell; None if there is none."""
     prices = prices_of_lies(point, ways)
     price = price_of_lies(prices)
     if price is None:
         return None
     ends = [entry for entry, cost in prices.items() if cost == price]
-    number, net = Texts(net_of(point, ways), ends, 0).least_from(point.beginning)
-    papers = [number]
-    net = Telling(way, point, price).net_of_lies(net)
-    while len(papers) <= len(way):
-        paper, net = Texts(net, [LIE], len(papers)).least_from(point.beginning)
-        papers.append(paper)
-    return price, tuple(papers)
-
-
-class Telling:
-    """What all papers of a way go on by in the steps of its table, and when the number ends in a lie for a price."""
-
-    def __init__(self, way, point, price):
-        self.point = point
-        self.price = price
-        self.course = Course(way.signs, way.stations, AllTexts(way))
-        self.nothing = tuple(["" for _ in range(len(way) + 1)])
-
-    def net_of_lies(self, net):
-        """A net whose steps tell the signs of the least number, with steps that tell the texts of all papers."""
-        out = {}
-        for entry, steps in net.items():
-            signs = sorted({told[0] for told, _ in steps})
-            behind = {to: True for _, to in steps}
-            out[entry] = [(texts, to) for sign in signs for texts, to in self.goings(entry, sign) if to in behind]
-            if not steps:
-                out[entry] = [(texts, LIE) for texts in self.lies(entry)]
-        return out
-
-    def goings(self, entry, sign):
-        """What follows a sign of the number: tuples (texts, entry)."""
-        at, now, clean, spent, lag = entry
-        to = standing_behind(self.point.walk, sign, at)
-        clean_to, written = self.point.course.clean_going(clean, sign)
-        return [(texts, (to, states, clean_to, spent + price, lag_on(lag, texts[-1], written)))
-                for price, _, states, texts in self.course.goings(now, sign, self.price - spent, self.nothing)]
-
-    def lies(self, entry):
-        """The texts of the endings with which the number ends in a lie for just the price."""
-        _, now, clean, spent, lag = entry
-        ahead = self.point.ended_lag(clean, lag)
-        left = self.price - spent
-        return [texts for more, _, _, texts in self.course.endings(now, left, self.nothing)
-                if more == left and lag_on(ahead, texts[-1], "") != "="]
+    number, _ = Texts(net_of(point, ways), ends, 0).least_from(point.beginning)
+    return price, Telling(point.course, number, price).least_papers()
 
 
 def least_stopped_by(way, k, stopped):

@@ -176,6 +176,9 @@ class TestTrust(Case):
             for on in (0, 1) for spent in range(7) if on or not spent))
         papers = ["0" * 2 ** k for k in range(10)]
         self.same(told.lie, (1, (*papers, "0" * 511 + "1")))
+        # Two slips in one step are found, and told, as well.
+        told = Trust(way_of(ALL, *[double] * 8, ("hand", TURN), ("desk", EVEN)), most=2)
+        self.same(told.lie, (2, (*papers[:9], "0" * 254 + "11", "0" * 254 + "11")))
         way = way_of(exactly("01", "1"), *[double] * 5, ("hand", TURN), ("desk", EVEN), ("hand", TURN), ("hand", TURN))
         told = Trust(way, most=6)
         self.same(told.lie[0], 1)
